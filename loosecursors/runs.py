@@ -1,7 +1,6 @@
 """Runs: the shapes of a road at the calls of one listing by a rule, and whether a key is moved."""
 
-from loosecursors.bits import is_hash
-from loosecursors.errors import InvalidHash, InvalidRun, Mismatch
+from loosecursors.errors import InvalidRun, Mismatch
 from loosecursors.roads import Road
 from loosecursors.rules import Rule
 from loosecursors.shapes import is_move, is_shape, place_of
@@ -42,8 +41,7 @@ def is_whole(rule, road, run):
 def listed(rule, road, run, code):
     """Return a list that tells for each call of a run whether it lists a hash."""
     lists = lists_of(rule, road, run)
-    if not is_hash(code):
-        raise InvalidHash("the hash is not an integer from 0 to 31")
+    # A run has at least one call, so that place_of refuses what is no hash.
     return [place_of(shape, code, moved) in found for (shape, moved), found in zip(run, lists)]
 
 

@@ -237,6 +237,11 @@ class TestWithout(ExactCase):
                 self.same(rest.shapes, sorted(shapes))
         self.assertIs(road == small_road(), True)
 
+    def test_what_was_passed_is_as_before(self):
+        road = small_road()
+        self.untouched(lambda changes: road.without(changes).changes, [(UP, ONE), (ZERO, UP)])
+        self.untouched(lambda change: road.with_change(change).changes, (ZERO, TWO))
+
     def test_an_empty_list(self):
         self.assertIs(small_road().without([]) == small_road(), True)
         self.same(Road([ZERO], []).without([]).shapes, [ZERO])

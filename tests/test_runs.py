@@ -164,6 +164,13 @@ class TestRuns(ExactCase):
             if len(run) < 5:
                 self.assertIs(is_run(self.rule, self.road, run + [run[-1]]), not whole)
 
+    def test_a_run_gone_through_several_times(self):
+        wanted = {repr(row[0]) for row in self.runs}
+        for run, _, _, _ in self.runs:
+            for times in range(1, 5):
+                if len(run) * times <= 5:
+                    self.assertIs(is_run(self.rule, self.road, run * times), repr(run * times) in wanted)
+
     def test_the_key_is_at_its_place_of_the_moment(self):
         run = [(ZERO, False), (UP, True), (UP, False), (UP, True)]
         self.same(lists_of(self.rule, self.road, run), [((0, 0),), ((1, 1),), ((1, 1),), ((1, 1),)])
