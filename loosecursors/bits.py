@@ -6,9 +6,14 @@ GREATEST_WIDTH = 5
 GREATEST_HASH = 31
 
 
+def is_integer(thing):
+    """Tell whether a thing is an integer, which a bool is not."""
+    return isinstance(thing, int) and not isinstance(thing, bool)
+
+
 def is_between(thing, low, high):
-    """Tell whether a thing is an integer, which a bool is not, from low to high."""
-    return isinstance(thing, int) and not isinstance(thing, bool) and low <= thing <= high
+    """Tell whether a thing is an integer from low to high."""
+    return is_integer(thing) and low <= thing <= high
 
 
 def is_width(thing):
@@ -21,6 +26,12 @@ def is_hash(thing):
     return is_between(thing, 0, GREATEST_HASH)
 
 
+def check_hash(code):
+    """Raise InvalidHash if a thing is none."""
+    if not is_hash(code):
+        raise InvalidHash("the hash is not an integer from 0 to 31")
+
+
 def buckets_of(width):
     """Return the number of buckets of a table of a width."""
     return 1 << width
@@ -29,8 +40,7 @@ def buckets_of(width):
 def bucket(code, width):
     """Return the number of the bucket of a hash in a table of a width."""
     _check_width(width)
-    if not is_hash(code):
-        raise InvalidHash("the hash is not an integer from 0 to 31")
+    check_hash(code)
     return code % buckets_of(width)
 
 

@@ -1,7 +1,7 @@
 """Shapes, which are the widths of one or two tables, and the places in them."""
 
-from loosecursors.bits import bucket, buckets_of, is_between, is_hash, is_width
-from loosecursors.errors import InvalidHash, InvalidMove, InvalidShape
+from loosecursors.bits import bucket, buckets_of, check_hash, is_between, is_width
+from loosecursors.errors import InvalidMove, InvalidShape
 
 
 def is_shape(thing):
@@ -25,6 +25,11 @@ def is_move(shape, thing):
     return thing is False or thing is True and len(shape) == 2
 
 
+def moves_of(shape):
+    """Return the list of the bools that may say of a key whether it is moved."""
+    return [False] if len(shape) == 1 else [False, True]
+
+
 def places(shape):
     """Return the ascending list of the places of a shape."""
     _check_shape(shape)
@@ -43,8 +48,7 @@ def is_place(shape, thing):
 def place_of(shape, code, moved):
     """Return the place of a key with a hash."""
     _check_shape(shape)
-    if not is_hash(code):
-        raise InvalidHash("the hash is not an integer from 0 to 31")
+    check_hash(code)
     if not is_move(shape, moved):
         raise InvalidMove("moved is not a bool that is possible with this shape")
     table = 1 if moved else 0

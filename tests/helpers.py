@@ -1,8 +1,13 @@
-"""What the tests share: odd objects, objects near a given one, exact comparisons, and the document's examples."""
+"""What the tests share: odd objects, objects near a given one, exact comparisons, the document's examples, and rules
+and roads that are drawn, with what can be reckoned of them by hand."""
 
 import copy
+import random
 import re
 import unittest
+
+from loosecursors.roads import Road
+from loosecursors.rules import Rule
 
 WIDTHS = list(range(6))
 SHAPES = sorted([(w,) for w in WIDTHS] + [(v, w) for v in WIDTHS for w in WIDTHS if v != w])
@@ -180,3 +185,181 @@ def spoil_all(thing):
             spoil_all(item)
         thing.append("spoilt")
         thing.reverse()
+
+
+WRONG_HASHES = [-1, 32, 33, True, False, None, "0", "", (0,), [0], [], {}, {0: 1}, 10 ** 39, -10 ** 39]
+WRONG_NUMBERS = [-1, -2, True, False, None, "0", "1", "", (0,), [0], [], {}, {0: 1}, -10 ** 39]
+
+
+def moves(shape):
+    return [False, True][:len(shape)]
+
+
+def all_places(shape):
+    return [(table, number) for table in range(len(shape)) for number in range(2 ** shape[table])]
+
+
+def draw_call(rand, cursors, shape, density, ending, least=0):
+    listed = tuple([place for place in all_places(shape) if rand.random() < density])
+    return (listed, None if rand.random() < ending or least >= cursors else rand.randrange(least, cursors))
+
+
+def draw_rule(rand, shapes=None, cursors=None):
+    """A rule with one to four small shapes and one to five cursors, or with those that are named."""
+    widths = rand.choice([(0, 1), (0, 1, 2), (1, 2), (0, 3), (0, 1, 5)])
+    among = [shape for shape in SHAPES if set(shape) <= set(widths)]
+    shapes = shapes or rand.sample(among, rand.randrange(1, min(4, len(among)) + 1))
+    cursors = cursors or rand.randrange(1, 6)
+    density, ending = rand.choice([0, 0.2, 0.5, 0.8, 1]), rand.choice([0, 0.1, 0.3, 0.6])
+    # With a step the cursors only rise, so that every listing ends.
+    step = rand.choice([0, 0, 1])
+    return Rule(cursors, {shape: [draw_call(rand, cursors, shape, density, ending, step * (cursor + 1))
+                                  for cursor in range(cursors)] for shape in shapes})
+
+
+def draw_road(rand, shapes):
+    """A road of some of the shapes, perhaps one without changes."""
+    chance = rand.choice([0, 0.3, 0.6, 1])
+    changes = [(shape, other) for shape in shapes for other in shapes if shape != other and rand.random() < chance]
+    rand.shuffle(changes)
+    return Road(rand.sample(shapes, rand.randrange(1, len(shapes) + 1)), changes)
+
+
+def draw(seed, many):
+    """So many tuples (rand, rule, road)."""
+    rand = random.Random(seed)
+    for _ in range(many):
+        rule = draw_rule(rand)
+        yield rand, rule, draw_road(rand, rule.shapes)
+
+
+def turned_about(rand, table):
+    """The same dict with its keys put in in another order."""
+    keys = list(table)
+    rand.shuffle(keys)
+    return {key: table[key] for key in keys}
+
+
+def code_for(rand, road):
+    """A hash that is drawn from few, so that all of a small table's buckets come up, or from all."""
+    return rand.choice([rand.randrange(4), rand.randrange(32)])
+
+
+class World:
+    """The situations of a rule and a road by hand; a hash of None stands for every call."""
+
+    def __init__(self, rule, road):
+        shapes = sorted({*road.begin, *[shape for change in road.changes for shape in change]})
+        calls, changes = rule.calls, set(road.changes)
+        self.rule, self.road = rule, road
+        self.states = [(shape, cursor) for shape in shapes for cursor in range(rule.cursors)]
+        self.situations = [(shape, moved, cursor) for shape, cursor in self.states for moved in moves(shape)]
+        self.call = {situation: calls[situation[0]][situation[2]] for situation in self.situations}
+        self.begin = [situation for situation in self.situations if situation[0] in road.begin and situation[2] == 0]
+        self.behind = {}
+        for one in self.situations:
+            self.behind[one] = [two for two in self.situations if two[2] == self.call[one][1]
+                                and (two[0] == one[0] or (one[0], two[0]) in changes)]
+
+    def ends(self, situation):
+        return self.call[situation][1] is None
+
+    def lists(self, situation, code):
+        shape, moved, _ = situation
+        table = 1 if moved else 0
+        return code is None or (table, code % 2 ** shape[table]) in self.call[situation][0]
+
+    def followed(self, run):
+        """The situations of a run, or None if the list of its steps is none."""
+        found = []
+        for step in run:
+            among = self.behind[found[-1]] if found else self.begin
+            found += [one for one in among if exact(one[:2]) == exact(step)][:1] or [None]
+            if found[-1] is None:
+                return None
+        return found or None
+
+    def missed(self, code):
+        """The first of the shortest runs that miss a hash: the least run to each situation, for each length."""
+        rows = {one: [one[:2]] for one in self.begin if not self.lists(one, code)}
+        for _ in self.situations:
+            whole = sorted([run for one, run in rows.items() if self.ends(one)])
+            if whole:
+                return whole[0]
+            longer = {}
+            for one, run in rows.items():
+                for two in self.behind[one]:
+                    if not self.lists(two, code):
+                        longer[two] = min(longer.get(two, run + [two[:2]]), run + [two[:2]])
+            rows = longer
+        return None
+
+    def totals(self, code):
+        """All tuples (situation, calls up to it that list the hash), as far as these are not too many."""
+        found, rest = set(), [(one, int(self.lists(one, code))) for one in self.begin]
+        while rest:
+            one, total = rest.pop()
+            if (one, total) not in found:
+                found.add((one, total))
+                if total <= len(self.situations):
+                    rest += [(two, total + int(self.lists(two, code))) for two in self.behind[one]]
+        return found
+
+    def most(self, code):
+        number = max([total for _, total in self.totals(code)])
+        return None if number > len(self.situations) else number
+
+    def fewest(self, code):
+        return min([total for one, total in self.totals(code) if self.ends(one)], default=None)
+
+
+def row_by_hand(rule, cursor, other, beside):
+    """The first of the shortest rows of shapes that tell two rules that begin so apart: the least rows to all pairs of
+    cursors, for each length."""
+    calls, others = rule.calls, other.calls
+    rows = {(cursor, beside): []}
+    for _ in range(rule.cursors * other.cursors):
+        apart, longer = [], {}
+        for (one, two), row in rows.items():
+            for shape in calls:
+                (listed, later), (found, following) = calls[shape][one], others[shape][two]
+                if listed != found or (later is None) != (following is None):
+                    apart.append(row + [shape])
+                elif later is not None:
+                    pair = (later, following)
+                    longer[pair] = min(longer.get(pair, row + [shape]), row + [shape])
+        if apart:
+            return min(apart)
+        rows = longer
+    return None
+
+
+def renumbered(rule, numbers):
+    """The rule with its cursors numbered otherwise; numbers[0] must be 0."""
+    calls = {}
+    for shape, row in rule.calls.items():
+        calls[shape] = [None] * rule.cursors
+        for cursor, (listed, later) in enumerate(row):
+            calls[shape][numbers[cursor]] = (listed, None if later is None else numbers[later])
+    return Rule(rule.cursors, calls)
+
+
+def with_more_cursors(rand, rule, many):
+    """The rule with so many cursors more that no call goes to."""
+    calls = rule.calls
+    for shape in calls:
+        calls[shape] += [draw_call(rand, rule.cursors + many, shape, 0.4, 0.3) for _ in range(many)]
+    return Rule(rule.cursors + many, calls)
+
+
+def doubled(rand, rule):
+    """The rule with each cursor twice; calls go on with either."""
+    many = rule.cursors
+    calls = {shape: [(listed, None if later is None else later + many * rand.randrange(2)) for listed, later in row * 2]
+             for shape, row in rule.calls.items()}
+    return Rule(many * 2, calls)
+
+
+def shuffled_cursors(rand, many):
+    """The numbers of as many cursors in another order, with 0 in its place."""
+    return [0] + rand.sample(range(1, many), many - 1)
