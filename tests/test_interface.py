@@ -23,6 +23,31 @@ FUNCTIONS = {
         "lists_of": ["rule", "road", "run"], "is_whole": ["rule", "road", "run"],
         "listed": ["rule", "road", "run", "code"],
     },
+    "missed": {
+        "missed_run": ["rule", "road", "code"], "closed_set": ["rule", "road", "code"],
+        "is_closed": ["rule", "road", "code", "thing"], "concerns": ["rule", "road", "code"],
+    },
+    "ends": {
+        "longest": ["rule", "road"], "heights": ["rule", "road", "number"],
+        "is_heights": ["rule", "road", "number", "thing"], "loop": ["rule", "road"],
+        "is_loop": ["rule", "road", "thing"],
+    },
+    "times": {
+        "most_times": ["rule", "road", "code"], "times_heights": ["rule", "road", "code", "number"],
+        "is_times_heights": ["rule", "road", "code", "number", "thing"], "times_loop": ["rule", "road", "code"],
+        "is_times_loop": ["rule", "road", "code", "thing"],
+    },
+    "least": {
+        "fewest_calls": ["rule", "road"], "fewest_times": ["rule", "road", "code"],
+        "depths": ["rule", "road", "number"], "is_depths": ["rule", "road", "number", "thing"],
+    },
+    "hashes": {"alike_hashes": ["road"], "verdicts": ["rule", "road"], "first_missed": ["rule", "road"]},
+    "same": {
+        "apart": ["rule", "other"], "do_the_same": ["rule", "other"], "pairs": ["rule", "other"],
+        "is_together": ["rule", "other", "thing"],
+    },
+    "smallest": {"smallest": ["rule"], "told_apart": ["rule", "cursor", "other"], "groups": ["rule"]},
+    "makers": {"counting": ["shapes"], "counting_down": ["shapes"], "reversed_bits": ["shapes"]},
 }
 CLASSES = {
     ("rules", "Rule"): {
