@@ -26,6 +26,12 @@ def is_hash(thing):
     return is_between(thing, 0, GREATEST_HASH)
 
 
+def check_width(width):
+    """Raise InvalidWidth if a thing is none."""
+    if not is_width(width):
+        raise InvalidWidth("the width is not an integer from 0 to 5")
+
+
 def check_hash(code):
     """Raise InvalidHash if a thing is none."""
     if not is_hash(code):
@@ -39,14 +45,14 @@ def buckets_of(width):
 
 def bucket(code, width):
     """Return the number of the bucket of a hash in a table of a width."""
-    _check_width(width)
+    check_width(width)
     check_hash(code)
     return code % buckets_of(width)
 
 
 def turned(number, width):
     """Return the number whose width binary digits are those of a number in reverse order."""
-    _check_width(width)
+    check_width(width)
     _check_number(number, width)
     rest = number
     result = 0
@@ -58,17 +64,12 @@ def turned(number, width):
 
 def within(number, small, large):
     """Return the buckets of a large table whose remainder by the buckets of a small one is a number."""
-    _check_width(small)
-    _check_width(large)
+    check_width(small)
+    check_width(large)
     _check_number(number, small)
     if small > large:
         raise InvalidNumber("the small table is greater than the large one")
     return list(range(number, buckets_of(large), buckets_of(small)))
-
-
-def _check_width(width):
-    if not is_width(width):
-        raise InvalidWidth("the width is not an integer from 0 to 5")
 
 
 def _check_number(number, width):

@@ -6,37 +6,38 @@ from loosecursors.rules import Rule
 from loosecursors.shapes import are_shapes
 
 
+def check_shapes(shapes):
+    """Raise InvalidShapes if a thing is not a list of one or more different shapes."""
+    if not are_shapes(shapes):
+        raise InvalidShapes("the shapes are not a list of one or more different shapes")
+
+
+def top_of(shapes):
+    """Return the greatest width of the tables of some shapes."""
+    return max([max(shape) for shape in shapes])
+
+
 def counting(shapes):
     """Return the rule that lists the buckets one after another."""
-    _check_shapes(shapes)
-    cursors = buckets_of(_top_of(shapes))
+    check_shapes(shapes)
+    cursors = buckets_of(top_of(shapes))
     return Rule(cursors, {shape: [_call_up(shape, cursor) for cursor in range(cursors)] for shape in shapes})
 
 
 def counting_down(shapes):
     """Return the rule that lists the buckets one after another, the last one first."""
-    _check_shapes(shapes)
-    cursors = buckets_of(_top_of(shapes))
+    check_shapes(shapes)
+    cursors = buckets_of(top_of(shapes))
     return Rule(cursors, {shape: [_call_down(shape, cursor) for cursor in range(cursors)] for shape in shapes})
 
 
 def reversed_bits(shapes):
     """Return the rule that counts with the digits of the cursor reversed."""
-    _check_shapes(shapes)
-    top = _top_of(shapes)
+    check_shapes(shapes)
+    top = top_of(shapes)
     cursors = buckets_of(top)
     calls = {shape: [_call_reversed(shape, cursor, top) for cursor in range(cursors)] for shape in shapes}
     return Rule(cursors, calls)
-
-
-def _check_shapes(shapes):
-    if not are_shapes(shapes):
-        raise InvalidShapes("the shapes are not a list of one or more different shapes")
-
-
-def _top_of(shapes):
-    """Return the greatest width of the tables of some shapes."""
-    return max([max(shape) for shape in shapes])
 
 
 def _buckets_with(shape, number):

@@ -11,6 +11,15 @@ def format_shape(shape):
     return ">".join([str(width) for width in shape])
 
 
+def read_number(word):
+    """Return the integer from 0 to 99 that a word is, without leading zeros, or None."""
+    # No number that is read here has more than two figures, and Python refuses to read thousands of them.
+    if len(word) > 2 or not word.isascii() or not word.isdigit():
+        return None
+    number = int(word)
+    return number if str(number) == word else None
+
+
 def format_rule(rule):
     """Return the text of a rule."""
     lines = [f"cursors {rule.cursors}"]
@@ -75,21 +84,13 @@ def _lines_of(text):
     return text.split("\n")
 
 
-def _read_number(word):
-    # No number of a text has more than two figures, and Python refuses to read thousands of them.
-    if len(word) > 2 or not word.isascii() or not word.isdigit():
-        return None
-    number = int(word)
-    return number if str(number) == word else None
-
-
 def _read_numbers(word, sign):
-    return tuple([_read_number(part) for part in word.split(sign)])
+    return tuple([read_number(part) for part in word.split(sign)])
 
 
 def _read_cursors(line):
     words = line.split(" ")
-    cursors = _read_number(words[-1])
+    cursors = read_number(words[-1])
     if len(words) != 2 or words[0] != "cursors" or not is_number_of_cursors(cursors):
         raise ParseError(0)
     return cursors
@@ -112,7 +113,7 @@ def _read_call(words, cursors, shape, index):
         later = None
     else:
         last = len(words) - 2
-        later = _read_number(words[-1])
+        later = read_number(words[-1])
         if words[last] != "next" or later is None:
             raise ParseError(index)
     call = (tuple([_read_numbers(word, ".") for word in words[1:last]]), later)

@@ -6,8 +6,10 @@ import random
 import re
 import unittest
 
+from loosecursors import errors
 from loosecursors.roads import Road
 from loosecursors.rules import Rule
+from loosecursors.texts import parse_rule
 
 WIDTHS = list(range(6))
 SHAPES = sorted([(w,) for w in WIDTHS] + [(v, w) for v in WIDTHS for w in WIDTHS if v != w])
@@ -188,6 +190,9 @@ def spoil_all(thing):
 
 
 WRONG_HASHES = [-1, 32, 33, True, False, None, "0", "", (0,), [0], [], {}, {0: 1}, 10 ** 39, -10 ** 39]
+WRONG_WIDTHS = [-1, 6, 31, True, False, None, "0", "", (0,), [1], [], {}, {0: 1}, 10 ** 39, -10 ** 39]
+WRONG_NAMES = ["", "abcdefghi", "a" * 5000, "A", "aB", "a1", "0", "a b", " a", "a ", "a\n", "\na", "\n", "a\tb", "a_b", "a-b",
+               "a.b", "`", "{", "None", None, True, False, 0, 1, 10 ** 39, (), ("a",), ["a"], [], {}, {"a": 1}]
 WRONG_NUMBERS = [-1, -2, True, False, None, "0", "1", "", (0,), [0], [], {}, {0: 1}, -10 ** 39]
 
 
@@ -225,12 +230,54 @@ def draw_road(rand, shapes):
     return Road(rand.sample(shapes, rand.randrange(1, len(shapes) + 1)), changes)
 
 
+def drawn_shapes(seed, many, shapes=SHAPES, most=12):
+    """So many tuples (rand, shapes): lists of different shapes in any order, so many of them at most."""
+    rand = random.Random(seed)
+    for _ in range(many):
+        yield rand, rand.sample(shapes, rand.randrange(1, min(most, len(shapes)) + 1))
+
+
 def draw(seed, many):
     """So many tuples (rand, rule, road)."""
     rand = random.Random(seed)
     for _ in range(many):
         rule = draw_rule(rand)
         yield rand, rule, draw_road(rand, rule.shapes)
+
+
+def draw_sound_rule(rand, shapes, cursors):
+    """A rule by which no run of one shape alone misses a hash: each shape has a row of cursors of its own, on which each
+    bucket of the smaller table is listed once, beside all to which its keys are moved."""
+    density, ending = rand.choice([0, 0, 0.4]), rand.choice([0, 0.3, 0.6])
+    calls = {}
+    for shape in shapes:
+        row = shuffled_cursors(rand, cursors)[:rand.randrange(1, cursors + 1)]
+        among = {number: rand.choice(row) for number in range(2 ** min(shape))}
+        calls[shape] = [draw_call(rand, cursors, shape, density, ending) for _ in range(cursors)]
+        for cursor, later in zip(row, row[1:] + [None]):
+            listed = [place for place in all_places(shape) if among[place[1] % 2 ** min(shape)] == cursor]
+            calls[shape][cursor] = (tuple(listed), later)
+    return Rule(cursors, calls)
+
+
+def draw_prices(rand, road):
+    """Prices of all changes of a road: of all kinds, small ones, or all the same one."""
+    among = rand.choice([range(1, 1000), [1, 2, 3], [1], [999], [1, 999], [5, 7]])
+    return turned_about(rand, {change: rand.choice(among) for change in road.changes})
+
+
+def draw_bans(seed, many, most=7):
+    """So many tuples (rand, rule, road, prices) with as many changes at most; most of them need bans."""
+    rand = random.Random(seed)
+    for _ in range(many):
+        shapes = rand.sample([shape for shape in SHAPES if max(shape) < 3], rand.randrange(1, 5))
+        cursors = rand.randrange(1, 7)
+        sound = rand.random() < 0.9
+        rule = draw_sound_rule(rand, shapes, cursors) if sound else draw_rule(rand, shapes, cursors)
+        changes = [(shape, other) for shape in shapes for other in shapes if shape != other]
+        changes = rand.sample(changes, min(rand.choice([0, 1, 2, 3, 4, 5, 6, 7, 7, 7]), most, len(changes)))
+        road = Road(rand.sample(shapes, rand.randrange(1, len(shapes) + 1)), changes)
+        yield rand, rule, road, draw_prices(rand, road)
 
 
 def turned_about(rand, table):
@@ -293,6 +340,28 @@ class World:
                         longer[two] = min(longer.get(two, run + [two[:2]]), run + [two[:2]])
             rows = longer
         return None
+
+    def concerns(self, code):
+        """All states of all calls up to the first one that lists the hash, by as many rounds as there are situations."""
+        found = {one: 0 for one in self.begin}
+        for _ in self.situations:
+            for one in list(found):
+                if not self.lists(one, code):
+                    found.update({two: 0 for two in self.behind[one]})
+        return sorted({(shape, cursor) for shape, _, cursor in found})
+
+    def misses(self, changes):
+        """Whether a run that makes some changes of the road alone misses a hash; other situations count as not met."""
+        for code in range(32):
+            found, rest = set(), list(self.begin)
+            while rest:
+                one = rest.pop()
+                if one not in found and not self.lists(one, code):
+                    if self.ends(one):
+                        return True
+                    found.add(one)
+                    rest += [two for two in self.behind[one] if two[0] == one[0] or (one[0], two[0]) in changes]
+        return False
 
     def totals(self, code):
         """All tuples (situation, calls up to it that list the hash), as far as these are not too many."""
@@ -363,3 +432,338 @@ def doubled(rand, rule):
 def shuffled_cursors(rand, many):
     """The numbers of as many cursors in another order, with 0 in its place."""
     return [0] + rand.sample(range(1, many), many - 1)
+
+
+def integer_by_hand(thing, low, high):
+    return thing.__class__ is int and low <= thing <= high
+
+
+def name_by_hand(thing):
+    return isinstance(thing, str) and re.fullmatch("[a-z]{1,8}", thing) is not None
+
+
+def known_by_hand(thing, table):
+    return name_by_hand(thing) and thing in table
+
+
+def outcome(function, *args):
+    """What a call returns, as a text, or the error that it raises, with the line or the course of the error."""
+    try:
+        return exact(function(*args))
+    except errors.CursorError as error:
+        return exact([error.__class__.__name__, vars(error)])
+
+
+class TableModel:
+    """A table by hand: a list of the keys of each bucket of each table."""
+
+    def __init__(self, width):
+        if not integer_by_hand(width, 0, 5):
+            raise errors.InvalidWidth("")
+        self.tables, self.moved = [[{} for _ in range(2 ** width)]], 0
+
+    @property
+    def shape(self):
+        return tuple([len(buckets).bit_length() - 1 for buckets in self.tables])
+
+    @property
+    def spots(self):
+        """From names to tuples (table, hash)."""
+        return {name: (table, code) for table, buckets in enumerate(self.tables) for keys in buckets
+                for name, code in keys.items()}
+
+    @property
+    def names(self):
+        return sorted(self.spots)
+
+    def lay(self, table, name, code):
+        buckets = self.tables[table]
+        buckets[code % len(buckets)][name] = code
+
+    def put(self, name, code):
+        if not name_by_hand(name):
+            raise errors.InvalidName("")
+        if name in self.spots:
+            raise errors.DuplicateName("")
+        if not integer_by_hand(code, 0, 31):
+            raise errors.InvalidHash("")
+        self.lay(-1, name, code)
+
+    def drop(self, name):
+        self.code_of(name)
+        for buckets in self.tables:
+            for keys in buckets:
+                keys.pop(name, None)
+
+    def start(self, width):
+        if not integer_by_hand(width, 0, 5) or self.shape == (width,):
+            raise errors.InvalidWidth("")
+        if len(self.tables) == 2:
+            raise errors.Moving("")
+        self.tables.append([{} for _ in range(2 ** width)])
+
+    def move(self, count):
+        if len(self.tables) == 1 or not integer_by_hand(count, 1, len(self.tables[0]) - self.moved):
+            raise errors.InvalidNumber("")
+        for _ in range(count):
+            for name, code in self.tables[0][self.moved].items():
+                self.lay(1, name, code)
+            self.tables[0][self.moved] = {}
+            self.moved += 1
+        if self.moved == len(self.tables[0]):
+            self.tables, self.moved = self.tables[1:], 0
+
+    def code_of(self, name):
+        if not known_by_hand(name, self.spots):
+            raise errors.UnknownName("")
+        return self.spots[name][1]
+
+    def is_moved(self, name):
+        self.code_of(name)
+        return self.spots[name][0] == 1
+
+    def at(self, place):
+        if not is_one_of(place, all_places(self.shape)):
+            raise errors.InvalidPlace("")
+        return sorted(self.tables[place[0]][place[1]])
+
+    def copy(self):
+        return copy.deepcopy(self)
+
+
+class DeskModel:
+    """A desk by hand: all states ahead are kept as copies."""
+
+    def __init__(self, rule, width):
+        self.rule, self.table, self.listings, self.earlier = rule, TableModel(width), {}, []
+        if (width,) not in rule.shapes:
+            raise errors.UnknownShape("")
+
+    @property
+    def shape(self):
+        return self.table.shape
+
+    @property
+    def names(self):
+        return self.table.names
+
+    @property
+    def moved(self):
+        return self.table.moved
+
+    def __len__(self):
+        return len(self.earlier)
+
+    def change(self, edit):
+        """Make a call on the table, if it raises no error."""
+        table = self.table.copy()
+        edit(table)
+        if not {(table.shape[-1],), table.shape} <= set(self.rule.shapes):
+            raise errors.UnknownShape("")
+        self.keep()
+        self.table = table
+
+    def keep(self):
+        self.earlier.append(copy.deepcopy((self.table, self.listings)))
+
+    def put(self, name, code):
+        self.change(lambda table: table.put(name, code))
+
+    def drop(self, name):
+        self.change(lambda table: table.drop(name))
+        for listing in self.listings.values():
+            listing["runs"].pop(name, None)
+
+    def start(self, width):
+        self.change(lambda table: table.start(width))
+
+    def move(self, count):
+        self.change(lambda table: table.move(count))
+
+    def enter(self, label):
+        if not name_by_hand(label):
+            raise errors.InvalidName("")
+        if label in self.listings:
+            raise errors.DuplicateName("")
+        self.keep()
+        self.listings[label] = {"cursor": 0, "told": [], "runs": {name: [] for name in self.names}}
+
+    def listing(self, label):
+        if not known_by_hand(label, self.listings):
+            raise errors.UnknownLabel("")
+        return self.listings[label]
+
+    def step(self, label):
+        if self.is_over(label):
+            raise errors.Over("")
+        self.keep()
+        listing = self.listings[label]
+        places, listing["cursor"] = self.rule.calls[self.shape][listing["cursor"]]
+        names = sorted([name for place in places for name in self.table.at(place)])
+        listing["told"] += names
+        for name, run in listing["runs"].items():
+            run.append((self.shape, self.table.is_moved(name)))
+        return names
+
+    def undo(self):
+        if not self.earlier:
+            raise errors.NothingToUndo("")
+        self.table, self.listings = self.earlier.pop()
+
+    def told(self, label):
+        told = self.listing(label)["told"]
+        return {name: told.count(name) for name in sorted(set(told))}
+
+    def stayed(self, label):
+        return sorted(self.listing(label)["runs"])
+
+    def run_of(self, label, name):
+        runs = self.listing(label)["runs"]
+        if not known_by_hand(name, runs):
+            raise errors.UnknownName("")
+        return runs[name]
+
+    def is_over(self, label):
+        return self.listing(label)["cursor"] is None
+
+    def copy(self):
+        return copy.deepcopy(self)
+
+
+def table_shown(table):
+    """All that a table shows, as a text."""
+    keys = [[table.code_of(name), table.is_moved(name)] for name in table.names]
+    return exact([table.shape, table.names, table.moved, keys, [table.at(place) for place in all_places(table.shape)]])
+
+
+def desk_shown(desk, labels):
+    """All that a desk shows of its table and of some labels, as a text."""
+    rows = [[outcome(ask, label) for ask in (desk.told, desk.stayed, desk.is_over)] for label in labels]
+    runs = [[outcome(desk.run_of, label, name) for name in desk.names] for label in labels]
+    return exact([desk.shape, desk.names, desk.moved, len(desk), rows, runs])
+
+
+ITEMS = {"create": 3, "deposit": 3, "withdraw": 2, "resize": 2, "carry": 2, "enlist": 2, "advance": 2, "finish": 2,
+         "discard": 1, "mark": 1, "back": 1}
+
+
+class BoardModel:
+    """A board by hand."""
+
+    def __init__(self):
+        self.desks, self.marks, self.log = {}, {}, []
+
+    @property
+    def names(self):
+        return sorted(self.desks)
+
+    def desk(self, name):
+        if not known_by_hand(name, self.desks):
+            raise errors.UnknownName("")
+        return self.desks[name]
+
+    def run(self, command, *args):
+        """Execute a command with its two entries."""
+        self.log.append(command)
+        try:
+            result = getattr(self, f"do_{command}")(*args)
+        except errors.CursorError:
+            self.log.append("failed")
+            raise
+        self.log.append("done")
+        return result
+
+    def do_create(self, name, text, width):
+        if not name_by_hand(name):
+            raise errors.InvalidName("")
+        if name in self.desks:
+            raise errors.DuplicateName("")
+        self.desks[name] = DeskModel(parse_rule(text), width)
+
+    def do_deposit(self, name, key, code):
+        self.desk(name).put(key, code)
+
+    def do_withdraw(self, name, key):
+        self.desk(name).drop(key)
+
+    def do_resize(self, name, width):
+        self.desk(name).start(width)
+
+    def do_carry(self, name, count):
+        self.desk(name).move(count)
+
+    def do_enlist(self, name, label):
+        self.desk(name).enter(label)
+
+    def do_advance(self, name, label):
+        return self.desk(name).step(label)
+
+    def do_finish(self, name, label):
+        desk = self.desk(name)
+        if desk.is_over(label):
+            raise errors.Over("")
+        cursors = [desk.listings[label]["cursor"]]
+        while cursors[-1] is not None:
+            cursors.append(desk.rule.calls[desk.shape][cursors[-1]][1])
+            if cursors[-1] in cursors[:-1]:
+                raise errors.Endless("")
+        return [desk.step(label) for _ in cursors[1:]]
+
+    def do_discard(self, name):
+        self.desk(name)
+        del self.desks[name]
+
+    def do_mark(self, label):
+        if not name_by_hand(label):
+            raise errors.InvalidName("")
+        if label in self.marks:
+            raise errors.DuplicateName("")
+        self.marks[label] = copy.deepcopy(self.desks)
+
+    def do_back(self, label):
+        if not known_by_hand(label, self.marks):
+            raise errors.UnknownMark("")
+        self.desks = copy.deepcopy(self.marks[label])
+
+    def do_batch(self, commands):
+        if not isinstance(commands, list):
+            raise errors.InvalidCommand("")
+        before = copy.deepcopy((self.desks, self.marks))
+        try:
+            return [self.do_item(item) for item in commands]
+        except errors.CursorError:
+            self.desks, self.marks = before
+            raise
+
+    def do_item(self, item):
+        if not isinstance(item, tuple) or not item or exact(item[0]) not in {exact(name) for name in ITEMS}:
+            raise errors.InvalidCommand("")
+        if len(item) != 1 + ITEMS[item[0]]:
+            raise errors.InvalidCommand("")
+        return self.run(*item)
+
+    def shape_of(self, name):
+        return self.desk(name).shape
+
+    def keys_of(self, name):
+        return self.desk(name).names
+
+    def told_by(self, name, label):
+        return self.desk(name).told(label)
+
+    def stayed_by(self, name, label):
+        return self.desk(name).stayed(label)
+
+    def copy(self):
+        other = copy.deepcopy(self)
+        other.log = []
+        return other
+
+
+def board_shown(board, labels, log=True):
+    """All that a board shows of some labels, as a text, with or without its log."""
+    desks = []
+    for name in board.names:
+        told = [[outcome(ask, name, label) for ask in (board.told_by, board.stayed_by)] for label in labels]
+        desks.append([board.shape_of(name), board.keys_of(name), told])
+    return exact([board.names, desks, board.log if log else None])

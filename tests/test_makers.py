@@ -9,7 +9,7 @@ from loosecursors.makers import counting, counting_down, reversed_bits
 from loosecursors.missed import missed_run
 from loosecursors.roads import Road, full_road
 from loosecursors.rules import Rule
-from tests.helpers import SHAPES, ExactCase, draw_road, exact, is_one_of, nested, odd_things
+from tests.helpers import SHAPES, ExactCase, draw_road, drawn_shapes, exact, is_one_of, nested, odd_things
 
 MAKERS = (counting, counting_down, reversed_bits)
 ZERO, ONE, TWO, UP, DOWN = (0,), (1,), (2,), (0, 1), (1, 0)
@@ -61,12 +61,6 @@ def reversed_by_hand(shape, cursor, top):
 
 
 BY_HAND = {counting: counting_by_hand, counting_down: down_by_hand, reversed_bits: reversed_by_hand}
-
-
-def drawn_shapes(seed, many, shapes=SHAPES, most=12):
-    rand = random.Random(seed)
-    for _ in range(many):
-        yield rand, rand.sample(shapes, rand.randrange(1, min(most, len(shapes)) + 1))
 
 
 class TestExamples(ExactCase):

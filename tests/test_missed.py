@@ -35,16 +35,6 @@ def closed_by_hand(world, code, thing):
     return True
 
 
-def concerns_by_hand(world, code):
-    """All states of all calls up to the first one that lists the hash, by as many rounds as there are situations."""
-    found = {one: 0 for one in world.begin}
-    for _ in world.situations:
-        for one in list(found):
-            if not world.lists(one, code):
-                found.update({two: 0 for two in world.behind[one]})
-    return sorted({(shape, cursor) for shape, _, cursor in found})
-
-
 class TestExamples(ExactCase):
 
     def test_the_example(self):
@@ -100,14 +90,14 @@ class TestDrawn(ExactCase):
     def test_concerns(self):
         for rand, rule, road in draw(4, 800):
             code = code_for(rand, road)
-            self.same(concerns(rule, road, code), concerns_by_hand(World(rule, road), code))
+            self.same(concerns(rule, road, code), World(rule, road).concerns(code))
 
     def test_all_hashes(self):
         for rand, rule, road in draw(5, 40):
             world = World(rule, road)
             for code in range(32):
                 self.same(missed_run(rule, road, code), world.missed(code))
-                self.same(concerns(rule, road, code), concerns_by_hand(world, code))
+                self.same(concerns(rule, road, code), world.concerns(code))
                 self.assertIs(closed_set(rule, road, code) is None, world.missed(code) is not None)
 
     def test_all_lists_of_situations(self):
