@@ -48,6 +48,14 @@ FUNCTIONS = {
     },
     "smallest": {"smallest": ["rule"], "told_apart": ["rule", "cursor", "other"], "groups": ["rule"]},
     "makers": {"counting": ["shapes"], "counting_down": ["shapes"], "reversed_bits": ["shapes"]},
+    "formulas": {
+        "spot": ["code", "top"], "span": ["shape", "cursor", "top"], "full_calls": ["shapes"],
+        "full_times": ["shapes", "code"],
+    },
+    "bans": {"cheapest_bans": ["rule", "road", "prices"], "is_ban": ["rule", "road", "thing"]},
+    "papers": {
+        "paper": ["rule", "road", "prices", "number"], "is_paper": ["rule", "road", "prices", "number", "thing"],
+    },
 }
 CLASSES = {
     ("rules", "Rule"): {
@@ -58,6 +66,36 @@ CLASSES = {
         "__init__": ["self", "begin", "changes"], "behind": ["self", "shape"], "without": ["self", "changes"],
         "with_change": ["self", "change"],
     },
+    ("studies", "Study"): {
+        "__init__": ["self", "rule", "road"], "missed": ["self", "code"],
+        "set_call": ["self", "shape", "cursor", "call"], "allow": ["self", "change"], "forbid": ["self", "change"],
+        "undo": ["self"], "copy": ["self"], "__len__": ["self"],
+    },
+    ("tables", "Table"): {
+        "__init__": ["self", "width"], "put": ["self", "name", "code"], "drop": ["self", "name"],
+        "start": ["self", "width"], "move": ["self", "count"], "code_of": ["self", "name"], "is_moved": ["self", "name"],
+        "at": ["self", "place"], "copy": ["self"],
+    },
+    ("desks", "Desk"): {
+        "__init__": ["self", "rule", "width"], "put": ["self", "name", "code"], "drop": ["self", "name"],
+        "start": ["self", "width"], "move": ["self", "count"], "enter": ["self", "label"], "step": ["self", "label"],
+        "undo": ["self"], "told": ["self", "label"], "stayed": ["self", "label"], "run_of": ["self", "label", "name"],
+        "is_over": ["self", "label"], "copy": ["self"], "__len__": ["self"],
+    },
+    ("board", "Board"): {
+        "__init__": ["self"], "create": ["self", "name", "text", "width"], "deposit": ["self", "name", "key", "code"],
+        "withdraw": ["self", "name", "key"], "resize": ["self", "name", "width"], "carry": ["self", "name", "count"],
+        "enlist": ["self", "name", "label"], "advance": ["self", "name", "label"], "finish": ["self", "name", "label"],
+        "discard": ["self", "name"], "mark": ["self", "label"], "back": ["self", "label"], "batch": ["self", "commands"],
+        "shape_of": ["self", "name"], "keys_of": ["self", "name"], "told_by": ["self", "name", "label"],
+        "stayed_by": ["self", "name", "label"], "copy": ["self"],
+    },
+    ("shell", "Shell"): {"__init__": ["self"], "run": ["self", "line"]},
+}
+PROPERTIES = {
+    ("rules", "Rule"): ["cursors", "shapes", "calls"], ("roads", "Road"): ["begin", "changes", "shapes"],
+    ("studies", "Study"): ["rule", "road", "known", "searches"], ("tables", "Table"): ["shape", "names", "moved"],
+    ("desks", "Desk"): ["rule", "shape", "names", "moved"], ("board", "Board"): ["names", "log"],
 }
 
 
@@ -83,6 +121,26 @@ class TestInterface(unittest.TestCase):
             for method, parameters in methods.items():
                 with self.subTest(method):
                     self.assertEqual(list(inspect.signature(vars(found)[method]).parameters), parameters)
+
+    def test_equality_is_defined_in_the_class_itself(self):
+        for name, owner in [("rules", "Rule"), ("roads", "Road")]:
+            self.assertIn("__eq__", vars(getattr(module(name), owner)))
+
+    def test_properties(self):
+        for (name, owner), properties in PROPERTIES.items():
+            found = vars(getattr(module(name), owner))
+            for word in properties:
+                with self.subTest(f"{owner}.{word}"):
+                    self.assertIsInstance(found[word], property)
+                    self.assertIsNone(found[word].fset)
+
+    def test_no_parameter_has_a_default_value(self):
+        for name, functions in FUNCTIONS.items():
+            for function in functions:
+                self.assertIsNone(getattr(module(name), function).__defaults__)
+        for (name, owner), methods in CLASSES.items():
+            for method in methods:
+                self.assertIsNone(vars(getattr(module(name), owner))[method].__defaults__)
 
 
 class TestFiles(unittest.TestCase):
